@@ -1,0 +1,1 @@
+"""Fallways: callers' own functions that write, and all falls that they may meet."""
