@@ -1,7 +1,7 @@
 """Plans: a work, a mend, and the pages that they write."""
 
 from fallways.errors import BadLimit, BadName, BadValue
-from fallways.values import is_value
+from fallways.values import is_integer, is_value
 
 LETTERS_OF_WORD = 8
 HIGHEST_LONGEST = 60
@@ -22,6 +22,8 @@ class Plan:
         self.torn = tuple(sorted(torn))
         self.longest = longest
         self.most = most
+        self.spared_steps = ()
+        self.flush_places = ()
         self._start = tuple((name, pages[name]) for name in sorted(pages))
 
     def names(self):
@@ -31,6 +33,15 @@ class Plan:
     def start(self):
         """Tell the disk at first."""
         return self._start
+
+    def altered(self, spared_steps, flush_places):
+        """Make a plan like this one but for the work's spared steps, and those that a flush is put in behind."""
+        plan = Plan(
+            self.work, self.mend, pages=dict(self._start), torn=self.torn, longest=self.longest, most=self.most
+        )
+        plan.spared_steps = tuple(sorted(set(spared_steps)))
+        plan.flush_places = tuple(sorted(set(flush_places)))
+        return plan
 
 
 def _rest(hand):
@@ -67,5 +78,5 @@ def _check_values(pages):
 
 
 def _check_limit(limit, highest):
-    if not isinstance(limit, int) or isinstance(limit, bool) or not 1 <= limit <= highest:
+    if not is_integer(limit) or not 1 <= limit <= highest:
         raise BadLimit(limit)

@@ -8,6 +8,11 @@ def is_value(thing):
     return thing is None or isinstance(thing, (int, str))
 
 
+def is_integer(thing):
+    """Tell of any object whether it is an integer; a truth is none."""
+    return isinstance(thing, int) and not isinstance(thing, bool)
+
+
 def same(value, other):
     """Tell whether two values are equal and alike in kind."""
     return mark(value) == mark(other)
@@ -30,3 +35,8 @@ def mark(value):
     if isinstance(value, str):
         return ("string", value)
     return ("none",)
+
+
+def mark_of_disk(disk):
+    """Tell a tuple that two disks of a plan have in common just if they are the same."""
+    return tuple(mark(pair[1]) for pair in disk)

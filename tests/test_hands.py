@@ -5,6 +5,7 @@ import unittest
 
 from fallways.errors import BadValue, Beyond, Held, NoPage
 from fallways.hands import Hand, perform
+from checks import Checks
 from samples import NO_VALUES, VALUES
 
 DISK = (("a", 0), ("b", (1, "x")))
@@ -55,14 +56,6 @@ def take_held(work):
         work()
     except Held:
         pass
-
-
-class Refusing(unittest.TestCase):
-    def refused(self, kind, attribute, thing, call, *told, **named):
-        with self.assertRaises(kind) as caught:
-            call(*told, **named)
-        self.assertIs(type(caught.exception), kind)
-        self.assertIs(getattr(caught.exception, attribute), thing)
 
 
 class TheClass(unittest.TestCase):
@@ -167,7 +160,7 @@ class Wishes(unittest.TestCase):
         self.assertEqual(ran(work), ran(work))
 
 
-class Saying(Refusing):
+class Saying(Checks):
     def test_notes_stand_at_the_steps_done_by_then(self):
         def work(hand):
             hand.say("first")
@@ -198,7 +191,7 @@ class Saying(Refusing):
         self.assertEqual(len(ran(work, 1)[1]), 100)
 
 
-class Ending(Refusing):
+class Ending(Checks):
     def test_told(self):
         for value in VALUES:
             end = end_of(lambda hand: value)
@@ -249,7 +242,7 @@ class Ending(Refusing):
             self.assertIsNone(error.__context__)
 
 
-class Faults(Refusing):
+class Faults(Checks):
     def faulty(self, work, longest=40):
         """Run a work that must come to its end, and tell what it left behind."""
         reached = []

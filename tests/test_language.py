@@ -72,6 +72,10 @@ def bound_names(tree):
             yield node.name
 
 
+def is_set(node):
+    return isinstance(node, ast.Call) and isinstance(node.func, ast.Name) and node.func.id == "set"
+
+
 class Language(unittest.TestCase):
     def setUp(self):
         self.files = {path: text_of(path) for path in paths()}
@@ -188,6 +192,44 @@ class Language(unittest.TestCase):
                 self.assertNotIn("%", node.value, (name, node.lineno))
         for name, node in self.nodes(ast.Div, ast.MatMult, ast.Await, ast.Global):
             self.fail((name, node))
+
+    def test_no_name_is_a_method_and_an_attribute(self):
+        methods = {
+            node.name for _, owner in self.nodes(ast.ClassDef) for node in owner.body
+            if isinstance(node, ast.FunctionDef)
+        }
+        for name, node in self.nodes(ast.Attribute):
+            if isinstance(node.ctx, ast.Store):
+                self.assertNotIn(node.attr, methods, (name, node.lineno))
+
+    def test_sets_are_only_added_to_and_asked(self):
+        for name, function in self.nodes(ast.FunctionDef):
+            sets = {
+                node.targets[0].id for node in ast.walk(function)
+                if isinstance(node, ast.Assign) and is_set(node.value)
+            }
+            allowed = 0
+            for node in ast.walk(function):
+                if isinstance(node, ast.Assign) and is_set(node.value):
+                    allowed += 1
+                elif isinstance(node, ast.Attribute) and node.attr == "add":
+                    allowed += 1
+                elif isinstance(node, ast.Compare) and isinstance(node.ops[0], (ast.In, ast.NotIn)):
+                    allowed += getattr(node.comparators[0], "id", "") in sets
+            uses = [node for node in ast.walk(function) if isinstance(node, ast.Name) and node.id in sets]
+            self.assertEqual(len(uses), allowed, (name, function.name))
+        for name, node in self.nodes(ast.Set, ast.SetComp):
+            self.fail((name, node.lineno))
+
+    def test_what_callers_pass_is_not_called_in_a_generator(self):
+        # There a StopIteration of theirs would not go on unchanged.
+        for name, node in self.nodes(ast.GeneratorExp):
+            for call in ast.walk(node):
+                if isinstance(call, ast.Call):
+                    word = getattr(call.func, "id", getattr(call.func, "attr", ""))
+                    self.assertNotIn(word, {"test", "function", "perform", "holds", "shuts_out", "mended"}, name)
+        for name, node in self.nodes(ast.Yield, ast.YieldFrom):
+            self.fail((name, node.lineno))
 
     def test_is_stands_before_none_and_truths_alone(self):
         for name, node in self.nodes(ast.Compare):

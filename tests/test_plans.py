@@ -6,6 +6,7 @@ import unittest
 from fallways.errors import BadLimit, BadName, BadValue
 from fallways.hands import perform
 from fallways.plans import Plan
+from checks import Checks
 from samples import NO_VALUES, VALUES
 
 NO_WORDS = [
@@ -25,12 +26,9 @@ def mend(hand):
     hand.put("a", 0)
 
 
-class Refusing(unittest.TestCase):
-    def refused(self, kind, attribute, thing, **parts):
-        with self.assertRaises(kind) as caught:
-            Plan(work, mend, **parts)
-        self.assertIs(type(caught.exception), kind)
-        self.assertIs(getattr(caught.exception, attribute), thing)
+class Refusing(Checks):
+    def not_made(self, kind, attribute, thing, **parts):
+        self.refused(kind, attribute, thing, Plan, work, mend, **parts)
 
 
 class Making(unittest.TestCase):
@@ -144,12 +142,12 @@ class Names(Refusing):
 
     def test_others(self):
         for name in NO_WORDS:
-            self.refused(BadName, "name", name, pages={name: 0})
-            self.refused(BadName, "name", name, pages={"a": 0, name: 0, "B": 0})
+            self.not_made(BadName, "name", name, pages={name: 0})
+            self.not_made(BadName, "name", name, pages={"a": 0, name: 0, "B": 0})
 
     def test_first_one_as_handed_in(self):
-        self.refused(BadName, "name", "Z", pages={"b": 0, "Z": 0, "A": 0})
-        self.refused(BadName, "name", "A", pages={"b": 0, "A": 0, "Z": 0})
+        self.not_made(BadName, "name", "Z", pages={"b": 0, "Z": 0, "A": 0})
+        self.not_made(BadName, "name", "A", pages={"b": 0, "A": 0, "Z": 0})
 
     def test_many_pages(self):
         names = ["f", "e", "d", "c", "b", "a"]
@@ -164,22 +162,22 @@ class Torn(Refusing):
 
     def test_what_is_no_page(self):
         for name in [*NO_WORDS, "b", "ab", [], ["a"], {}, {"a"}, object(), float("nan")]:
-            self.refused(BadName, "name", name, pages={"a": 0}, torn=[name])
-            self.refused(BadName, "name", name, pages={"a": 0}, torn=("a", name, "zz"))
+            self.not_made(BadName, "name", name, pages={"a": 0}, torn=[name])
+            self.not_made(BadName, "name", name, pages={"a": 0}, torn=("a", name, "zz"))
 
     def test_what_stood_there_already(self):
-        self.refused(BadName, "name", "a", pages={"a": 0, "b": 0}, torn=["a", "a"])
-        self.refused(BadName, "name", "b", pages={"a": 0, "b": 0}, torn=("b", "a", "b", "a"))
+        self.not_made(BadName, "name", "a", pages={"a": 0, "b": 0}, torn=["a", "a"])
+        self.not_made(BadName, "name", "b", pages={"a": 0, "b": 0}, torn=("b", "a", "b", "a"))
 
     def test_first_one_of_several(self):
         pages = {"a": 0, "b": 0}
-        self.refused(BadName, "name", "a", pages=pages, torn=["a", "a", "c"])
-        self.refused(BadName, "name", "c", pages=pages, torn=["a", "c", "a"])
+        self.not_made(BadName, "name", "a", pages=pages, torn=["a", "a", "c"])
+        self.not_made(BadName, "name", "c", pages=pages, torn=["a", "c", "a"])
 
     def test_of_any_length(self):
         pages = {"a": 0}
-        self.refused(BadName, "name", "a", pages=pages, torn=["a"] * 100000)
-        self.refused(BadName, "name", "b", pages=pages, torn=("b",) * 100000)
+        self.not_made(BadName, "name", "a", pages=pages, torn=["a"] * 100000)
+        self.not_made(BadName, "name", "b", pages=pages, torn=("b",) * 100000)
 
 
 class Values(Refusing):
@@ -190,13 +188,13 @@ class Values(Refusing):
 
     def test_others(self):
         for thing in NO_VALUES:
-            self.refused(BadValue, "value", thing, pages={"a": thing})
-            self.refused(BadValue, "value", thing, pages={"b": 0, "a": thing, "c": 2.5})
+            self.not_made(BadValue, "value", thing, pages={"a": thing})
+            self.not_made(BadValue, "value", thing, pages={"b": 0, "a": thing, "c": 2.5})
 
     def test_first_one_as_handed_in(self):
         first, second = [1], [2]
-        self.refused(BadValue, "value", first, pages={"c": 0, "b": first, "a": second})
-        self.refused(BadValue, "value", second, pages={"c": 0, "b": second, "a": first})
+        self.not_made(BadValue, "value", first, pages={"c": 0, "b": first, "a": second})
+        self.not_made(BadValue, "value", second, pages={"c": 0, "b": second, "a": first})
 
     def test_no_error_a_little_beyond_the_limits(self):
         for value in (10 ** 14, "x" * 30, tuple(range(12)), (((((1,),),),),)):
@@ -214,31 +212,31 @@ class Limits(Refusing):
 
     def test_beyond_them_and_of_other_kinds(self):
         for limit in LIMITS_OF_NO_KIND:
-            self.refused(BadLimit, "limit", limit, pages={"a": 0}, longest=limit)
-            self.refused(BadLimit, "limit", limit, pages={"a": 0}, most=limit)
-        self.refused(BadLimit, "limit", 61, pages={"a": 0}, longest=61)
-        self.refused(BadLimit, "limit", 2001, pages={"a": 0}, most=2001)
+            self.not_made(BadLimit, "limit", limit, pages={"a": 0}, longest=limit)
+            self.not_made(BadLimit, "limit", limit, pages={"a": 0}, most=limit)
+        self.not_made(BadLimit, "limit", 61, pages={"a": 0}, longest=61)
+        self.not_made(BadLimit, "limit", 2001, pages={"a": 0}, most=2001)
 
     def test_longest_ahead_of_most(self):
-        self.refused(BadLimit, "limit", 61, pages={"a": 0}, longest=61, most=0)
-        self.refused(BadLimit, "limit", True, pages={"a": 0}, most=False, longest=True)
+        self.not_made(BadLimit, "limit", 61, pages={"a": 0}, longest=61, most=0)
+        self.not_made(BadLimit, "limit", True, pages={"a": 0}, most=False, longest=True)
 
 
 class Order(Refusing):
     def test_faults_in_the_order_of_the_text(self):
         worth = [1]
         parts = {"pages": {"a": worth, "B": 0, "C": 0}, "torn": ["d"], "longest": 0, "most": -1}
-        self.refused(BadName, "name", "B", **parts)
+        self.not_made(BadName, "name", "B", **parts)
         parts["pages"] = {"a": worth, "b": 0}
-        self.refused(BadName, "name", "d", **parts)
+        self.not_made(BadName, "name", "d", **parts)
         parts["torn"] = ["b", "b"]
-        self.refused(BadName, "name", "b", **parts)
+        self.not_made(BadName, "name", "b", **parts)
         parts["torn"] = ["b"]
-        self.refused(BadValue, "value", worth, **parts)
+        self.not_made(BadValue, "value", worth, **parts)
         parts["pages"] = {"a": 1, "b": 0}
-        self.refused(BadLimit, "limit", 0, **parts)
+        self.not_made(BadLimit, "limit", 0, **parts)
         parts["longest"] = 60
-        self.refused(BadLimit, "limit", -1, **parts)
+        self.not_made(BadLimit, "limit", -1, **parts)
         parts["most"] = 2000
         self.assertEqual(Plan(work, mend, **parts).start(), (("a", 1), ("b", 0)))
 
