@@ -86,7 +86,8 @@ class Histories(Checks):
         for seed in SEEDS:
             plan = some_plan(seed, 7)
             model = ModelPlan(plan)
-            longest = 2 if len(model.work.falls()) < 12 else 1
+            many = len(model.work.falls())
+            longest = 3 if many < 8 else 2 if many < 16 else 1
             cls.rows.append((plan, model, longest, model.histories(longest)))
 
     def test_disks(self):
